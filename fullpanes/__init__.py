@@ -1,0 +1,1 @@
+"""Full boxes in tables of yes and no."""

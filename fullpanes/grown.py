@@ -1,0 +1,64 @@
+"""Full boxes that can't grow, and how a full box grows to one.
+
+A side is numbered as its place in a box: 0 top, 1 left, 2 bottom, 3 right.
+"""
+
+from fullpanes.tables import cells_of, full_boxes, is_box, box_lies_in
+
+SIDES = 4
+OUTWARD = (-1, -1, 1, 1)
+OPPOSITE = (2, 3, 0, 1)
+
+
+def grown_boxes(table):
+    """The rising list of the full boxes that lie in no other full box."""
+    return [box for box in full_boxes(table) if _is_grown(table, box)]
+
+
+def sides_of(table, box):
+    """What stops a full box at its top, left, bottom and right."""
+    return tuple([_stop_at(table, box, side) for side in range(SIDES)])
+
+
+def grown_by(table, box, order):
+    """The full-grown box that a full box becomes, its sides moved out in order."""
+    grown = box
+    for side in order:
+        while _stop_at(table, grown, side) is None:
+            grown = _moved_out(grown, side)
+    return grown
+
+
+def grown_over(table, box):
+    """The rising list of the full-grown boxes in which a full box lies."""
+    return [grown for grown in grown_boxes(table) if box_lies_in(box, grown)]
+
+
+def _is_grown(table, box):
+    # A bigger full box around this one would fill some side's whole strip.
+    return not any(_stop_at(table, box, side) is None for side in range(SIDES))
+
+
+def _stop_at(table, box, side):
+    """() at the rim, else the least no right beside the side, else None."""
+    strip = _strip_beside(box, side)
+    if not is_box(table, strip):
+        return ()
+    for r, c in cells_of(strip):
+        if table[r][c] == 0:
+            return (r, c)
+    return None
+
+
+def _strip_beside(box, side):
+    """The box of the cells right beside a side, beyond the rim at the rim."""
+    edges = list(_moved_out(box, side))
+    edges[OPPOSITE[side]] = box[side]
+    return tuple(edges)
+
+
+def _moved_out(box, side):
+    """The box with one side a row or column further out."""
+    edges = list(box)
+    edges[side] += OUTWARD[side]
+    return tuple(edges)
