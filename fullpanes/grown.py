@@ -3,7 +3,7 @@
 A side is numbered as its place in a box: 0 top, 1 left, 2 bottom, 3 right.
 """
 
-from fullpanes.tables import cells_of, full_boxes, is_box, box_lies_in
+from fullpanes.tables import box_lies_in, full_boxes, is_box, least_no
 
 SIDES = 4
 OUTWARD = (-1, -1, 1, 1)
@@ -44,10 +44,7 @@ def _stop_at(table, box, side):
     strip = _strip_beside(box, side)
     if not is_box(table, strip):
         return ()
-    for r, c in cells_of(strip):
-        if table[r][c] == 0:
-            return (r, c)
-    return None
+    return least_no(table, strip)
 
 
 def _strip_beside(box, side):

@@ -45,13 +45,55 @@ def is_box(table, thing):
 
 def is_full(table, box):
     """Whether all cells that the box holds are yes."""
-    return all([table[r][c] == 1 for r, c in cells_of(box)])
+    return least_no(table, box) is None
 
 
 def cells_of(box):
     """The rising list of the cells that the box holds."""
     top, left, bottom, right = box
     return [(r, c) for r in range(top, bottom) for c in range(left, right)]
+
+
+def size_of(box):
+    """The height and width of the box."""
+    top, left, bottom, right = box
+    return (bottom - top, right - left)
+
+
+def whole_of(table):
+    """The box that holds all cells of the table."""
+    return (0, 0, len(table), len(table[0]))
+
+
+def windows_of(table, height, width):
+    """The rising list of the table's boxes of a size, none of a size beyond it."""
+    return [
+        (top, left, top + height, left + width)
+        for top in range(len(table) - height + 1)
+        for left in range(len(table[0]) - width + 1)
+    ]
+
+
+def cells_with(table, box, worth):
+    """The rising list of the cells of a worth, 1 or 0, that the box holds."""
+    return [(r, c) for r, c in cells_of(box) if table[r][c] == worth]
+
+
+def least_no(table, box):
+    """The least cell of a no that the box holds, or None where it is full."""
+    noes = cells_with(table, box, 0)
+    return noes[0] if noes else None
+
+
+def is_no_in(table, box, thing):
+    """Whether a thing is a cell of a no that the box holds."""
+    if not isinstance(thing, tuple) or len(thing) != 2:
+        return False
+    if not all([is_number(part) for part in thing]):
+        return False
+    r, c = thing
+    top, left, bottom, right = box
+    return top <= r < bottom and left <= c < right and table[r][c] == 0
 
 
 def box_lies_in(box, other):

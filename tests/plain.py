@@ -125,3 +125,64 @@ OTHER_THINGS = [
     None, True, False, 0, 1, 5, -1, 10 ** 59, "", "1", "10", "1\n0", b"", b"\x01\x00", {}, {0: [1]}, {(0,): 1},
     set(), {1}, {(1,)}, frozenset(), frozenset([(1,)]), range(1), range(2), object(), iter([[1]]), len, ValueError,
 ]
+
+
+VAST = 10 ** 60 - 1
+
+# Measures of all four kinds: weights 0, small ones and ones of sixty figures.
+MEASURES = [
+    ("area",), ("sides",), ("square",), ("weights", 0, 0), ("weights", 1, 0), ("weights", 0, 1), ("weights", 3, 2),
+    ("weights", 2, 7), ("weights", VAST, 0), ("weights", 1, VAST), ("weights", 10 ** 59, VAST),
+]
+
+# What is no measure: every kind of thing, and what is a measure but for one thing.
+OTHER_MEASURES = OTHER_THINGS + [
+    "area", "sides", "weights", "(\"area\",)", ["area"], ["sides"], ["square"], ["weights", 1, 2], [("area",)],
+    (), ("",), ("Area",), ("area ",), ("areas",), ("are",), ("side",), ("small",), ("weight",), ("weight", 1, 2),
+    ("area", "area"), ("area", 1), ("area", 1, 2), ("area", ()), ("sides", 0), ("square", None), ("square", 1, 1),
+    ("weights",), ("weights", 1), ("weights", 1, 2, 3), ("weights", (1, 2)), ("weights", [1, 2]), (1, 2, "weights"),
+    ("weights", -1, 0), ("weights", 0, -1), ("weights", -VAST, VAST), ("weights", VAST, -VAST), ("weights", -1, -1),
+    ("weights", True, 0), ("weights", 0, True), ("weights", False, 0), ("weights", 0, False), ("weights", True, True),
+    ("weights", "1", 2), ("weights", 1, "2"), ("weights", None, 1), ("weights", 1, None), ("weights", (1,), 1),
+    ("weights", 1, [1]), ("weights", {}, 0), ("weights", 0, b"\x01"), (None,), (True,), (0,), (1, 2), (1, 1, 2),
+    (b"area",), (("area",),), ((((("area",),),),),), (["area"],), ({"area": 1},), ("weights", ((((1,),),),), 1),
+    ("area",) * 200, ("weights",) + (1,) * 199, tuple(range(200)), ("a" * 198,), "a" * 200, (("area",),) * 66,
+]
+
+
+def height_and_width(box):
+    return box[2] - box[0], box[3] - box[1]
+
+
+def plain_value(measure, height, width):
+    values = {"area": height * width, "sides": height + width, "square": min(height, width)}
+    if measure[0] == "weights":
+        return sum([measure[1] * height, measure[2] * width])
+    return values[measure[0]]
+
+
+def search_greatest(table, measure):
+    """The greatest value of all full boxes, and those full-grown ones that have it."""
+    valued = {box: plain_value(measure, *height_and_width(box)) for box in search_full(table)}
+    greatest = max(valued.values(), default=0)
+    return greatest, [box for box in search_grown(table) if valued[box] == greatest]
+
+
+def search_windows(table, height, width):
+    return sorted(box for box in every_box(table) if height_and_width(box) == (height, width))
+
+
+def sizes_in(table):
+    return [(h, w) for h in range(1, len(table) + 1) for w in range(1, len(table[0]) + 1)]
+
+
+def is_beyond(size, other):
+    """Whether a size is as high and as wide as another one, or more."""
+    return size[0] >= other[0] and size[1] >= other[1]
+
+
+# What is a height or width of no table.
+OTHER_SIZES = [thing for thing in OTHER_THINGS if not isinstance(thing, int)] + [
+    True, False, 0, -1, -10, 11, 10 ** 59, VAST, -VAST, "a" * 200, [], [1], [1, 1], (), (1,), (1, 1), ((((1,),),),),
+    {1: 1}, {"a": 1}, (1,) * 200,
+]

@@ -4,10 +4,18 @@ import copy
 import inspect
 import unittest
 
-from fullpanes import grown, tables
+from fullpanes import cases, corners, counts, grown, measures, papers, pieces, tables, worn
 
 TABLE = ((1, 1, 0), (1, 1, 1))
 BOX = (0, 0, 2, 1)
+AREA = ("area",)
+TREE = ("no", (0, 2), (), ("small",), ("small",), ())
+# A cross, around which there are points and chords, with a hole in a ring beside it.
+WIDE = (
+    (0, 1, 0, 1, 1, 1, 0, 0),
+    (1, 1, 1, 1, 0, 1, 0, 1),
+    (0, 1, 0, 1, 1, 1, 1, 0),
+)
 
 # Each function with arguments that it takes and the kind of value that it tells.
 TABLES = [
@@ -28,7 +36,63 @@ GROWN = [
     ("grown_by", (TABLE, BOX, [0, 1, 2, 3]), tuple),
     ("grown_over", (TABLE, BOX), list),
 ]
-ALL = [(tables, row) for row in TABLES] + [(grown, row) for row in GROWN]
+MEASURES = [
+    ("value_of", (("weights", 1, 2), 3, 4), int),
+    ("greatest_boxes", (TABLE, AREA), tuple),
+    ("size_stair", (WIDE,), list),
+]
+PAPERS = [
+    ("window_paper", (TABLE, 2, 3), list),
+    ("window_right", (TABLE, 2, 3, [(0, 2)]), bool),
+    ("greatest_paper", (WIDE, AREA), list),
+    ("paper_right", (TABLE, AREA, 4, [(2, 3, [(0, 2)])]), bool),
+]
+CASES = [
+    ("cases_tree", (WIDE, AREA), tuple),
+    ("cases_shows", (TABLE, AREA, TREE), int),
+]
+COUNTS = [
+    ("window_counts", (WIDE,), list),
+    ("box_count", (TABLE,), int),
+    ("holders", (WIDE,), list),
+]
+PIECES = [
+    ("pieces_of", (WIDE,), list),
+    ("holes_of", (WIDE,), list),
+]
+WORN = [
+    ("worn_table", (TABLE, 1, 2), tuple),
+    ("spread_table", (TABLE, 1, 2), tuple),
+    ("smoothed_table", (TABLE, 1, 2), tuple),
+    ("filled_table", (TABLE, 1, 2), tuple),
+    ("lies_within", (TABLE, TABLE), bool),
+]
+CORNERS = [
+    ("corners_of", (WIDE,), tuple),
+    ("chords_of", (WIDE,), list),
+    ("chords_meet", ((1, 1, 1, 2), (1, 1, 2, 1)), bool),
+]
+FILES = [
+    (tables, TABLES), (grown, GROWN), (measures, MEASURES), (papers, PAPERS), (cases, CASES), (counts, COUNTS),
+    (pieces, PIECES), (worn, WORN), (corners, CORNERS),
+]
+ALL = [(module, row) for module, rows in FILES for row in rows]
+
+
+def lists_in(thing):
+    """All lists in a thing that is told, itself among them where it is one."""
+    if not isinstance(thing, (list, tuple)):
+        return []
+    own = [thing] if isinstance(thing, list) else []
+    return own + [inner for part in thing for inner in lists_in(part)]
+
+
+# Where a list may be told that has nothing in it.
+EMPTY = [
+    (measures.size_stair, (((0,),),)), (measures.greatest_boxes, (((0,),), AREA)), (papers.window_paper, (TABLE, 3, 4)),
+    (papers.greatest_paper, (((1,),), AREA)), (pieces.pieces_of, (((0,),),)), (pieces.holes_of, (((0,),),)),
+    (corners.corners_of, (((0,),),)), (corners.chords_of, (((0,),),)),
+]
 
 
 class Interface(unittest.TestCase):
@@ -57,17 +121,30 @@ class Interface(unittest.TestCase):
             with self.subTest(name):
                 self.assertEqual(getattr(module, name)(*args), getattr(module, name)(*args))
 
-    def test_a_list_that_is_told_is_the_askers_own(self):
+    def asked(self):
+        """Each question with what is told to it, as a function and its arguments."""
+        return [(getattr(module, name), args) for module, (name, args, _) in ALL] + EMPTY
+
+    def test_lists_that_are_told_are_the_askers_own(self):
+        for function, args in self.asked():
+            with self.subTest(function.__name__, args=args):
+                first = function(*args)
+                kept = copy.deepcopy(first)
+                for told in lists_in(first):
+                    told.reverse()
+                    told.append(None)
+                self.assertEqual(function(*args), kept)
+
+    def test_no_two_lists_that_are_told_are_one(self):
+        for function, args in self.asked():
+            with self.subTest(function.__name__, args=args):
+                told = lists_in([function(*args), function(*args)])
+                self.assertEqual(len({id(one) for one in told}), len(told))
+
+    def test_lists_that_are_told_have_something_in_them_here(self):
         for module, (name, args, kind) in ALL:
-            if kind is list:
-                with self.subTest(name):
-                    first = getattr(module, name)(*args)
-                    kept = list(first)
-                    first.reverse()
-                    first.append(None)
-                    second = getattr(module, name)(*args)
-                    self.assertEqual(second, kept)
-                    self.assertIsNot(second, first)
+            told = lists_in(getattr(module, name)(*args))
+            self.assertTrue(kind is not list or any(told), name)
 
     def test_what_is_handed_in_is_not_changed(self):
         for module, (name, args, _) in ALL:
