@@ -1,6 +1,6 @@
 """What hangs together in a table: pieces of yes cells, and holes of noes."""
 
-from fullpanes.tables import cells_with, whole_of
+from fullpanes.tables import cells_with, whole_of, yes_cells
 
 BESIDE = ((-1, 0), (0, -1), (0, 1), (1, 0))
 AROUND = ((-1, -1), (-1, 0), (-1, 1), (0, -1), (0, 1), (1, -1), (1, 0), (1, 1))
@@ -8,7 +8,7 @@ AROUND = ((-1, -1), (-1, 0), (-1, 1), (0, -1), (0, 1), (1, -1), (1, 0), (1, 1))
 
 def pieces_of(table):
     """The pieces: yes cells that hang together side by side."""
-    return _clusters(cells_with(table, whole_of(table), 1), BESIDE)
+    return _clusters(yes_cells(table), BESIDE)
 
 
 def holes_of(table):

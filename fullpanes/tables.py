@@ -10,9 +10,24 @@ def is_number(thing):
     return isinstance(thing, int) and not isinstance(thing, bool)
 
 
+def is_count(thing, most):
+    """Whether a thing is a number from 1 to the most."""
+    return is_number(thing) and 1 <= thing <= most
+
+
 def is_worth(thing):
     """Whether a thing is what a cell can be: 1 or 0."""
     return is_number(thing) and 0 <= thing <= 1
+
+
+def is_pair(thing):
+    """Whether a thing is a tuple of two numbers, as a cell is."""
+    return isinstance(thing, tuple) and len(thing) == 2 and all([is_number(part) for part in thing])
+
+
+def is_rising(things):
+    """Whether things stand in order, none of them twice."""
+    return all([one < other for one, other in zip(things, things[1:])])
 
 
 def made_table(thing):
@@ -54,6 +69,12 @@ def cells_of(box):
     return [(r, c) for r in range(top, bottom) for c in range(left, right)]
 
 
+def holds(box, cell):
+    """Whether the box holds a cell."""
+    top, left, bottom, right = box
+    return top <= cell[0] < bottom and left <= cell[1] < right
+
+
 def size_of(box):
     """The height and width of the box."""
     top, left, bottom, right = box
@@ -63,6 +84,17 @@ def size_of(box):
 def whole_of(table):
     """The box that holds all cells of the table."""
     return (0, 0, len(table), len(table[0]))
+
+
+def boxes_of(table):
+    """The rising list of all boxes of the table."""
+    return [
+        (top, left, bottom, right)
+        for top in range(len(table))
+        for left in range(len(table[0]))
+        for bottom in range(top + 1, len(table) + 1)
+        for right in range(left + 1, len(table[0]) + 1)
+    ]
 
 
 def windows_of(table, height, width):
@@ -79,6 +111,11 @@ def cells_with(table, box, worth):
     return [(r, c) for r, c in cells_of(box) if table[r][c] == worth]
 
 
+def yes_cells(table):
+    """The rising list of the table's yes cells."""
+    return cells_with(table, whole_of(table), 1)
+
+
 def least_no(table, box):
     """The least cell of a no that the box holds, or None where it is full."""
     noes = cells_with(table, box, 0)
@@ -87,13 +124,7 @@ def least_no(table, box):
 
 def is_no_in(table, box, thing):
     """Whether a thing is a cell of a no that the box holds."""
-    if not isinstance(thing, tuple) or len(thing) != 2:
-        return False
-    if not all([is_number(part) for part in thing]):
-        return False
-    r, c = thing
-    top, left, bottom, right = box
-    return top <= r < bottom and left <= c < right and table[r][c] == 0
+    return is_pair(thing) and holds(box, thing) and table[thing[0]][thing[1]] == 0
 
 
 def box_lies_in(box, other):

@@ -1,12 +1,12 @@
 """Tables worn and spread by a size, smoothed and filled; which lies within which."""
 
 from fullpanes.errors import NoMatch, NoSize
-from fullpanes.tables import MOST, cells_of, cells_with, is_full, is_number, whole_of
+from fullpanes.tables import MOST, cells_of, is_count, is_full, yes_cells
 
 
 def worn_table(table, a, b):
     """The table with a cell for each window of a size: whether it is full."""
-    if not _is_count(a, len(table)) or not _is_count(b, len(table[0])):
+    if not is_count(a, len(table)) or not is_count(b, len(table[0])):
         raise NoSize("a table is worn by numbers from 1 to its rows and to its columns")
     return tuple([
         tuple([1 if is_full(table, (r, c, r + a, c + b)) else 0 for c in range(len(table[0]) - b + 1)])
@@ -17,10 +17,10 @@ def worn_table(table, a, b):
 def spread_table(table, a, b):
     """The table in which a window of a size is yes from each yes on."""
     rows, columns = len(table), len(table[0])
-    if not _is_count(a, MOST - rows + 1) or not _is_count(b, MOST - columns + 1):
+    if not is_count(a, MOST - rows + 1) or not is_count(b, MOST - columns + 1):
         raise NoSize("a table is spread by numbers from 1 on, to at most 10 rows and 10 columns")
     cells = [[0] * (columns + b - 1) for _ in range(rows + a - 1)]
-    for top, left in cells_with(table, whole_of(table), 1):
+    for top, left in yes_cells(table):
         for r, c in cells_of((top, left, top + a, left + b)):
             cells[r][c] = 1
     return tuple([tuple(row) for row in cells])
@@ -40,9 +40,4 @@ def lies_within(table, other):
     """Whether each yes of the first table is yes in the second."""
     if len(table) != len(other) or len(table[0]) != len(other[0]):
         raise NoMatch("the two tables have unlike counts of rows or columns")
-    return all([other[r][c] == 1 for r, c in cells_with(table, whole_of(table), 1)])
-
-
-def _is_count(thing, most):
-    """Whether a thing is a number from 1 to the most."""
-    return is_number(thing) and 1 <= thing <= most
+    return all([other[r][c] == 1 for r, c in yes_cells(table)])

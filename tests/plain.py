@@ -116,6 +116,48 @@ def great_tables():
     return [filled_table(10, 10, 1), filled_table(10, 10, 0), stripes]
 
 
+def made_by(rows, columns, is_yes):
+    """The table of the cells that a function says are yes."""
+    return tuple(tuple(int(is_yes(r, c)) for c in range(columns)) for r in range(rows))
+
+
+def checkers():
+    return [made_by(10, 10, lambda r, c, odd=odd: (r + c + odd) % 2) for odd in (0, 1)]
+
+
+def lone_noes(rows, columns):
+    """Noes alone in every second row and column."""
+    return made_by(rows, columns, lambda r, c: r % 2 == 0 or c % 2 == 0)
+
+
+def rings():
+    """Yeses and noes that go round one another."""
+    return made_by(10, 10, lambda r, c: min(r, c, 9 - r, 9 - c) % 2 == 0)
+
+
+def drawn_tables(rows, columns, seed):
+    """Tables of one size from few yeses to nearly all, always the same ones of a seed."""
+    dice = random.Random(seed)
+    return [made_by(rows, columns, lambda r, c, few=few: dice.randrange(20) >= few) for few in (1, 3, 6, 10, 14, 18)]
+
+
+def wide_tables():
+    """Tables of ten by ten of all kinds, with many chords, pieces, holes and boxes among them."""
+    gridded = made_by(10, 10, lambda r, c: r % 3 != 1 or c % 3 != 1)
+    shifted = made_by(10, 10, lambda r, c: r % 2 == 0 or (c + r // 2) % 3 != 1)
+    crossed = made_by(10, 10, lambda r, c: 3 <= r < 7 or 3 <= c < 7)
+    told = [lone_noes(10, 10), rings(), gridded, shifted, crossed]
+    return great_tables() + checkers() + told + drawn_tables(10, 10, 8)
+
+
+def turned(table):
+    return tuple(zip(*table))
+
+
+def mirrored(table):
+    return tuple(row[::-1] for row in table)
+
+
 def sample_tables():
     return small_tables() + mixed_tables() + great_tables()
 
@@ -186,3 +228,42 @@ OTHER_SIZES = [thing for thing in OTHER_THINGS if not isinstance(thing, int)] + 
     True, False, 0, -1, -10, 11, 10 ** 59, VAST, -VAST, "a" * 200, [], [1], [1, 1], (), (1,), (1, 1), ((((1,),),),),
     {1: 1}, {"a": 1}, (1,) * 200,
 ]
+
+
+def reckon_corners(table):
+    """The points by their four cells, all that are yes taken from a set of cells."""
+    yes = yes_cells(table)
+    told = ([], [], [])
+    for r in range(len(table) + 1):
+        for c in range(len(table[0]) + 1):
+            around = sorted(yes & {(r - 1, c - 1), (r - 1, c), (r, c - 1), (r, c)})
+            if len(around) == 1:
+                told[0].append((r, c))
+            elif around in ([(r - 1, c - 1), (r, c)], [(r - 1, c), (r, c - 1)]):
+                told[1].append((r, c))
+            elif len(around) == 3:
+                told[2].append((r, c))
+    return told
+
+
+def search_chords(table):
+    yes = yes_cells(table)
+    points = reckon_corners(table)[2]
+    found = []
+    for top, left in points:
+        for bottom, right in points:
+            flat = {(r, c) for r in (top - 1, top) for c in range(left, right)}
+            upright = {(r, c) for r in range(top, bottom) for c in (left - 1, left)}
+            if top == bottom and left < right and flat <= yes or left == right and top < bottom and upright <= yes:
+                found.append((top, left, bottom, right))
+    return sorted(found)
+
+
+def points_on(chord):
+    top, left, bottom, right = chord
+    return {(r, c) for r in range(top, bottom + 1) for c in range(left, right + 1)}
+
+
+def search_meet(one, other):
+    flat = [chord[0] == chord[2] for chord in (one, other)]
+    return flat[0] != flat[1] and bool(points_on(one) & points_on(other))

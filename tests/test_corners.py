@@ -6,45 +6,6 @@ from fullpanes.corners import chords_meet, chords_of, corners_of
 from tests import plain
 
 
-def reckon_corners(table):
-    """The points by their four cells, all that are yes taken from a set of cells."""
-    yes = plain.yes_cells(table)
-    told = ([], [], [])
-    for r in range(len(table) + 1):
-        for c in range(len(table[0]) + 1):
-            around = sorted(yes & {(r - 1, c - 1), (r - 1, c), (r, c - 1), (r, c)})
-            if len(around) == 1:
-                told[0].append((r, c))
-            elif around in ([(r - 1, c - 1), (r, c)], [(r - 1, c), (r, c - 1)]):
-                told[1].append((r, c))
-            elif len(around) == 3:
-                told[2].append((r, c))
-    return told
-
-
-def search_chords(table):
-    yes = plain.yes_cells(table)
-    points = reckon_corners(table)[2]
-    found = []
-    for top, left in points:
-        for bottom, right in points:
-            flat = {(r, c) for r in (top - 1, top) for c in range(left, right)}
-            upright = {(r, c) for r in range(top, bottom) for c in (left - 1, left)}
-            if top == bottom and left < right and flat <= yes or left == right and top < bottom and upright <= yes:
-                found.append((top, left, bottom, right))
-    return sorted(found)
-
-
-def points_on(chord):
-    top, left, bottom, right = chord
-    return {(r, c) for r in range(top, bottom + 1) for c in range(left, right + 1)}
-
-
-def search_meet(one, other):
-    flat = [chord[0] == chord[2] for chord in (one, other)]
-    return flat[0] != flat[1] and bool(points_on(one) & points_on(other))
-
-
 class Corners(unittest.TestCase):
     def test_by_hand(self):
         table = ((1, 1, 0), (1, 0, 1))
@@ -71,16 +32,15 @@ class Corners(unittest.TestCase):
         self.assertEqual(corners_of(table), ([(0, 2), (0, 3), (1, 2), (1, 3), (2, 0), (2, 1), (3, 0), (3, 1)], [], []))
 
     def test_a_checker_of_ten_by_ten(self):
-        for k in (0, 1):
-            table = tuple(tuple((r + c + k) % 2 for c in range(10)) for r in range(10))
+        for table in plain.checkers():
             out, crossed, turned_in = corners_of(table)
             self.assertEqual(crossed, [(r, c) for r in range(1, 10) for c in range(1, 10)])
             self.assertEqual((len(out), turned_in), (38, []))
 
     def test_against_the_plain_reckoning(self):
-        for table in plain.sample_tables():
+        for table in plain.sample_tables() + plain.wide_tables():
             told = corners_of(table)
-            self.assertEqual(told, reckon_corners(table), table)
+            self.assertEqual(told, plain.reckon_corners(table), table)
             self.assertEqual([type(told)] + [type(part) for part in told], [tuple, list, list, list])
 
 
@@ -104,15 +64,13 @@ class Chords(unittest.TestCase):
         self.assertEqual(chords_of(table), [])
 
     def test_of_all_yes_all_no_and_checkers(self):
-        checker = tuple(tuple((r + c) % 2 for c in range(10)) for r in range(10))
-        for table in [checker] + [plain.filled_table(10, 10, cell) for cell in (0, 1)] + [((1,),), ((0,),)]:
+        for table in plain.checkers() + [plain.filled_table(10, 10, cell) for cell in (0, 1)] + [((1,),), ((0,),)]:
             self.assertEqual(chords_of(table), [])
 
     def test_against_the_plain_search(self):
-        crossed = tuple(tuple(int(3 <= r < 7 or 3 <= c < 7) for c in range(10)) for r in range(10))
-        for table in plain.sample_tables() + [crossed]:
+        for table in plain.sample_tables() + plain.wide_tables():
             told = chords_of(table)
-            self.assertEqual(told, search_chords(table), table)
+            self.assertEqual(told, plain.search_chords(table), table)
             self.assertEqual([type(chord) for chord in told], [tuple] * len(told))
 
 
@@ -149,7 +107,7 @@ class Meet(unittest.TestCase):
         chords += [(a, c, b, c) for c in near for a in near for b in near if a < b]
         for one in chords:
             for other in chords:
-                self.assertIs(chords_meet(one, other), search_meet(one, other), (one, other))
+                self.assertIs(chords_meet(one, other), plain.search_meet(one, other), (one, other))
 
     def test_of_the_chords_of_tables(self):
         met = []
@@ -158,7 +116,7 @@ class Meet(unittest.TestCase):
             for one in chords:
                 for other in chords:
                     met.append(chords_meet(one, other))
-                    self.assertIs(met[-1], search_meet(one, other), (one, other))
+                    self.assertIs(met[-1], plain.search_meet(one, other), (one, other))
         self.assertIn(True, met)
         self.assertIn(False, met)
 

@@ -4,7 +4,7 @@ import copy
 import inspect
 import unittest
 
-from fullpanes import cases, corners, counts, grown, measures, papers, pieces, tables, worn
+from fullpanes import apart, cases, corners, counts, covers, grown, measures, papers, parting, pieces, tables, worn
 
 TABLE = ((1, 1, 0), (1, 1, 1))
 BOX = (0, 0, 2, 1)
@@ -16,6 +16,13 @@ WIDE = (
     (1, 1, 1, 1, 0, 1, 0, 1),
     (0, 1, 0, 1, 1, 1, 1, 0),
 )
+# A cross: chords that meet in two pairs, and a box that two trees of covers go over.
+CROSS = ((0, 1, 0), (1, 1, 1), (0, 1, 0))
+PAIRS = [((1, 1, 1, 2), (1, 1, 2, 1)), ((2, 1, 2, 2), (1, 2, 2, 2))]
+PARTS = [(0, 1, 1, 2), (1, 0, 2, 3), (2, 1, 3, 2)]
+COVER_TREE = ("cell", (1, 1), [("cells", ((1, 0),)), ("cell", (0, 1), [("cells", ())])])
+# No cells alone show that its cover needs so many, as they are taken, so its tree branches.
+TANGLED = ((0, 0, 0, 1, 1), (0, 1, 1, 1, 0), (1, 1, 1, 1, 0), (1, 1, 1, 0, 0), (1, 0, 0, 0, 0))
 
 # Each function with arguments that it takes and the kind of value that it tells.
 TABLES = [
@@ -72,9 +79,24 @@ CORNERS = [
     ("chords_of", (WIDE,), list),
     ("chords_meet", ((1, 1, 1, 2), (1, 1, 2, 1)), bool),
 ]
+PARTING = [
+    ("parting_told", (CROSS,), tuple),
+    ("parting_bound", (CROSS, PAIRS), int),
+    ("parting_right", (CROSS, (PARTS, PAIRS)), bool),
+]
+COVERS = [
+    ("are_sundered", (CROSS, [(1, 0), (0, 1)]), bool),
+    ("cover_shows", (CROSS, COVER_TREE), int),
+    ("cover_told", (TANGLED,), tuple),
+]
+APART = [
+    ("cut_tree", (PARTS[::-1],), tuple),
+    ("best_apart", (CROSS, 3), tuple),
+    ("line_bounds", (CROSS,), list),
+]
 FILES = [
     (tables, TABLES), (grown, GROWN), (measures, MEASURES), (papers, PAPERS), (cases, CASES), (counts, COUNTS),
-    (pieces, PIECES), (worn, WORN), (corners, CORNERS),
+    (pieces, PIECES), (worn, WORN), (corners, CORNERS), (parting, PARTING), (covers, COVERS), (apart, APART),
 ]
 ALL = [(module, row) for module, rows in FILES for row in rows]
 
@@ -91,7 +113,9 @@ def lists_in(thing):
 EMPTY = [
     (measures.size_stair, (((0,),),)), (measures.greatest_boxes, (((0,),), AREA)), (papers.window_paper, (TABLE, 3, 4)),
     (papers.greatest_paper, (((1,),), AREA)), (pieces.pieces_of, (((0,),),)), (pieces.holes_of, (((0,),),)),
-    (corners.corners_of, (((0,),),)), (corners.chords_of, (((0,),),)),
+    (corners.corners_of, (((0,),),)), (corners.chords_of, (((0,),),)), (parting.parting_told, (((0,),),)),
+    (parting.parting_told, (((1,),),)), (covers.cover_told, (((0,),),)), (apart.best_apart, (((0,),), 2)),
+    (apart.line_bounds, (((1,),),)),
 ]
 
 
