@@ -12,7 +12,14 @@ OPPOSITE = (2, 3, 0, 1)
 
 def grown_boxes(table):
     """The rising list of the full boxes that lie in no other full box."""
-    return [box for box in full_boxes(table) if _is_grown(table, box)]
+    return outermost(full_boxes(table))
+
+
+def outermost(boxes):
+    """Those of some boxes, all boxes in each among them, that lie in no other one."""
+    known = {box: True for box in boxes}
+    # A bigger one around a box holds it with some side moved out, so that is among them, too.
+    return [box for box in boxes if not any([_moved_out(box, side) in known for side in range(SIDES)])]
 
 
 def sides_of(table, box):
@@ -32,11 +39,6 @@ def grown_by(table, box, order):
 def grown_over(table, box):
     """The rising list of the full-grown boxes in which a full box lies."""
     return [grown for grown in grown_boxes(table) if box_lies_in(box, grown)]
-
-
-def _is_grown(table, box):
-    # A bigger full box around this one would fill some side's whole strip.
-    return not any(_stop_at(table, box, side) is None for side in range(SIDES))
 
 
 def _stop_at(table, box, side):

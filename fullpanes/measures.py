@@ -44,10 +44,14 @@ def value_of(measure, height, width):
 def greatest_boxes(table, measure):
     """The greatest value of a full box, and the full-grown boxes that have it, rising."""
     check_measure(measure)
-    grown = grown_boxes(table)
-    values = [_value_of_box(measure, box) for box in grown]
+    return greatest_among(measure, grown_boxes(table))
+
+
+def greatest_among(measure, boxes):
+    """The greatest value of some boxes, 0 of none, and those that have it."""
+    values = [_value_of_box(measure, box) for box in boxes]
     greatest = max(values, default=0)
-    return (greatest, [box for box, value in zip(grown, values) if value == greatest])
+    return (greatest, [box for box, value in zip(boxes, values) if value == greatest])
 
 
 def _value_of_box(measure, box):

@@ -15,8 +15,10 @@ def parting_told(table):
     """The fewest full boxes into which a table parts, and a paper that shows as many."""
     meeting = _meeting_chords(chords_of(table))
     partners = _partners_of(meeting)
-    drawn = _drawn_chords(table, meeting, partners)
-    boxes = _boxes_between(table, drawn + _lines_besides(table, drawn))
+    drawn = _drawn_flats(meeting, partners)
+    # An upright chord that no drawn flat one meets is drawn as the line from its ends.
+    lines = [_line_from(table, point, drawn) for point in corners_of(table)[2]]
+    boxes = _boxes_between(table, drawn + lines)
     return (boxes, sorted([(flat, upright) for upright, flat in partners.items()]))
 
 
@@ -80,26 +82,20 @@ def _finds_partner(flat, meeting, partners, tried):
     return False
 
 
-def _drawn_chords(table, meeting, partners):
-    """The most chords of which no two meet: of each pair one, and all without a partner."""
+def _drawn_flats(meeting, partners):
+    """The flat ones of the most chords of which no two meet."""
     paired = list(partners.values())
     waiting = [flat for flat in meeting if flat not in paired]
-    drawn, barred = {}, {}
+    drawn, barred = [], {}
     # A drawn flat chord bars upright ones, and for each of these its partner is drawn.
     while waiting:
         flat = waiting.pop()
-        drawn[flat] = True
+        drawn.append(flat)
         for upright in meeting[flat]:
             if upright not in barred:
                 barred[upright] = True
                 waiting.append(partners[upright])
-    return [chord for chord in chords_of(table) if chord in drawn or not _is_flat(chord) and chord not in barred]
-
-
-def _lines_besides(table, drawn):
-    """An upright line from each in point at which no drawn chord ends."""
-    ends = [point for chord in drawn for point in (chord[:2], chord[2:])]
-    return [_line_from(table, point, drawn) for point in corners_of(table)[2] if point not in ends]
+    return drawn
 
 
 def _line_from(table, point, drawn):
@@ -114,13 +110,13 @@ def _line_from(table, point, drawn):
 
 
 def _goes_on(table, point, step, drawn):
-    """Whether an upright line goes on between yeses from a point on no drawn flat chord."""
+    """Whether an upright line goes on between yeses from a point that is on no drawn flat chord."""
     r, c = point
     top = min(r, r + step)
     beside = (top, c - 1, top + 1, c + 1)
     if not is_box(table, beside) or not is_full(table, beside):
         return False
-    return not any([_is_flat(line) and line[0] == r and line[1] <= c <= line[3] for line in drawn])
+    return not any([row == r and left <= c <= right for row, left, _, right in drawn])
 
 
 def _boxes_between(table, lines):

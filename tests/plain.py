@@ -11,13 +11,17 @@ def box_cells(box):
     return frozenset((r, c) for r in range(10) for c in range(10) if top <= r < bottom and left <= c < right)
 
 
-def every_box(table):
-    rows, columns = len(table), len(table[0])
-    return [
+@lru_cache(maxsize=None)
+def boxes_once(rows, columns):
+    return tuple(
         box
         for box in product(range(rows), range(columns), range(1, rows + 1), range(1, columns + 1))
         if box[0] < box[2] and box[1] < box[3]
-    ]
+    )
+
+
+def every_box(table):
+    return list(boxes_once(len(table), len(table[0])))
 
 
 def yes_cells(table):
@@ -210,8 +214,13 @@ def search_greatest(table, measure):
     return greatest, [box for box in search_grown(table) if valued[box] == greatest]
 
 
+@lru_cache(maxsize=None)
+def windows_once(rows, columns, height, width):
+    return tuple(sorted(box for box in boxes_once(rows, columns) if height_and_width(box) == (height, width)))
+
+
 def search_windows(table, height, width):
-    return sorted(box for box in every_box(table) if height_and_width(box) == (height, width))
+    return list(windows_once(len(table), len(table[0]), height, width))
 
 
 def sizes_in(table):
@@ -267,3 +276,48 @@ def points_on(chord):
 def search_meet(one, other):
     flat = [chord[0] == chord[2] for chord in (one, other)]
     return flat[0] != flat[1] and bool(points_on(one) & points_on(other))
+
+
+# What is no number from 0 on.
+OTHER_COUNTS = [thing for thing in OTHER_THINGS if type(thing) is not int or thing < 0] + [
+    -2, -VAST, -10 ** 59, "a" * 200, "0", [], [0], [1, 1], (), (0,), (1, 1), ((((0,),),),), {0: 0}, {"a": 1}, (1,) * 200,
+]
+
+
+@lru_cache(maxsize=None)
+def noes_in(table, box):
+    return sum(1 for r, c in box_cells(box) if table[r][c] == 0)
+
+
+def lies_in(box, other):
+    return all(other[k] <= box[k] and box[k + 2] <= other[k + 2] for k in (0, 1))
+
+
+@lru_cache(maxsize=None)
+def let_once(table, k):
+    return tuple(sorted(box for box in every_box(table) if noes_in(table, box) <= k))
+
+
+def search_let(table, k):
+    return list(let_once(table, k))
+
+
+@lru_cache(maxsize=None)
+def let_grown_once(table, k):
+    boxes = sorted(let_once(table, k), key=lambda box: len(box_cells(box)), reverse=True)
+    # All that hold a box are greater, so what lies in none of those kept so far lies in none at all.
+    kept = []
+    for box in boxes:
+        if not any(lies_in(box, other) for other in kept):
+            kept.append(box)
+    return tuple(sorted(kept))
+
+
+def search_let_grown(table, k):
+    return list(let_grown_once(table, k))
+
+
+def changed(table, r, c, worth):
+    rows = [list(row) for row in table]
+    rows[r][c] = worth
+    return tuple(map(tuple, rows))

@@ -228,6 +228,8 @@ class CoverShows(unittest.TestCase):
             ("cells", ((0, 1), (1, 0), (1, 1))), ("cells", ((3, 1),)), ("cells", ((-2, 1),)), ("cells", ((0, -2),)),
             ("cells", ((VAST, VAST),)), ("cells", ((-VAST, 1),)), ("Cells", ()), ("bare", ()), ("boxes", (1, 1), [upright, flat]),
             ("cell", (1, 1), [upright, ()]), ("cell", (1, 1), [upright, ("cells",)]), ("cell", (1, 1), [None, flat]),
+            ("cells", ""), ("cells", 0), ("cells", "ab"), ("cells", (0, 1)), ("cells", ((False, True),)), ("cell", (0, 1), 1),
+            ("cell", (0, 1), "a"), ("cell", (False, True), [upright]), ("cell", 0, [upright]), ("cell", (0, 1), None),
         ]
         for tree in wrong:
             self.assertIsNone(cover_shows(CROSS, tree), tree)

@@ -4,7 +4,10 @@ import copy
 import inspect
 import unittest
 
-from fullpanes import apart, cases, corners, counts, covers, grown, measures, papers, parting, pieces, tables, worn
+from fullpanes import (
+    apart, cases, corners, counts, covers, desk, errors, grown, measures, noes, papers, parting, pieces, sheet, tables, texts,
+    worn,
+)
 
 TABLE = ((1, 1, 0), (1, 1, 1))
 BOX = (0, 0, 2, 1)
@@ -94,9 +97,23 @@ APART = [
     ("best_apart", (CROSS, 3), tuple),
     ("line_bounds", (CROSS,), list),
 ]
+NOES = [
+    ("let_grown", (TABLE, 1), list),
+    ("let_greatest", (TABLE, AREA, 1), tuple),
+    ("let_paper", (TABLE, 2, 3, 0), list),
+    ("let_right", (TABLE, 2, 3, 0, [((0, 2),)]), bool),
+    ("least_noes", (TABLE,), list),
+]
+TEXTS = [
+    ("table_text", (TABLE,), str),
+    ("parting_text", (CROSS, PARTS[::-1]), str),
+    ("read_table", ("#.\n##",), tuple),
+    ("read_parting", ("ab\na.",), tuple),
+]
 FILES = [
     (tables, TABLES), (grown, GROWN), (measures, MEASURES), (papers, PAPERS), (cases, CASES), (counts, COUNTS),
     (pieces, PIECES), (worn, WORN), (corners, CORNERS), (parting, PARTING), (covers, COVERS), (apart, APART),
+    (noes, NOES), (texts, TEXTS),
 ]
 ALL = [(module, row) for module, rows in FILES for row in rows]
 
@@ -115,11 +132,28 @@ EMPTY = [
     (papers.greatest_paper, (((1,),), AREA)), (pieces.pieces_of, (((0,),),)), (pieces.holes_of, (((0,),),)),
     (corners.corners_of, (((0,),),)), (corners.chords_of, (((0,),),)), (parting.parting_told, (((0,),),)),
     (parting.parting_told, (((1,),),)), (covers.cover_told, (((0,),),)), (apart.best_apart, (((0,),), 2)),
-    (apart.line_bounds, (((1,),),)),
+    (apart.line_bounds, (((1,),),)), (noes.let_grown, (((0,),), 0)), (noes.let_greatest, (((0,),), AREA, 0)),
+    (noes.let_paper, (TABLE, 3, 4, 0)), (texts.read_parting, ("..",)),
+]
+
+
+# All that the interface lists, by its file: the functions above, and these classes with their methods.
+CLASSES = [(sheet, "Sheet", ["put", "back", "table_now", "grown_now"]), (desk, "Desk", ["say"])]
+REFUSALS = [
+    "PaneError", "BadTable", "BadMeasure", "NoSize", "NoMatch", "TooMany", "NoCount", "NoCell", "BadWorth", "NothingDone",
+    "NoText", "NoRow", "NoSheet",
 ]
 
 
 class Interface(unittest.TestCase):
+    def test_each_class_is_of_its_file_with_its_own_methods(self):
+        for module, name, methods in CLASSES + [(errors, name, []) for name in REFUSALS]:
+            with self.subTest(name):
+                self.assertTrue(inspect.isclass(getattr(module, name)))
+                self.assertEqual(getattr(module, name).__module__, module.__name__)
+                for method in methods:
+                    self.assertTrue(inspect.isfunction(vars(getattr(module, name))[method]))
+
     def test_each_is_a_function_of_its_file(self):
         for module, (name, _, _) in ALL:
             with self.subTest(name):
